@@ -1,0 +1,1 @@
+"""Everypoint: solids of half-spaces, read at every point, with exact numbers."""

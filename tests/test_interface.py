@@ -1,0 +1,284 @@
+"""Points 2 to 4 and the opening paragraphs of the interface: names, arguments, kinds, sharing, examples."""
+
+import copy
+import importlib
+import inspect
+import os
+import subprocess
+import sys
+import unittest
+
+from everypoint import errors
+from everypoint.moves import STILL, quarter_turn, shift_by
+from support import X0, Y0, Z0, SpaceTest, kinds_of, lists_in, plane_at, point
+
+ROOT = os.path.dirname(os.path.dirname(os.path.abspath(__file__)))
+
+SIGNATURES = {
+    "ratios": [
+        "ratio(top, bottom=1)", "is_ratio(value)", "as_ratio(number)", "add(x, y)", "subtract(x, y)", "multiply(x, y)",
+        "divide(x, y)", "negate(x)", "sign(x)", "compare(x, y)", "middle(x, y)", "sort_ratios(values)", "ratio_text(x)",
+        "parse_ratio(text)", "is_name(value)"],
+    "vectors": [
+        "vector(x, y, z)", "is_vector(value)", "plus(u, v)", "minus(u, v)", "scaled(factor, v)", "dot(u, v)",
+        "cross(u, v)", "triple(u, v, w)", "is_zero(v)", "axis_vector(axis)", "blend(p, q, t)", "compare_points(p, q)",
+        "sort_points(points)", "in_line(p, q, r)", "strictly_between(p, q, r)"],
+    "planes": [
+        "make_half(a, b, c, d)", "make_plane(a, b, c, d)", "is_plane(value)", "is_half(value)", "value_at(plane, point)",
+        "side_of(plane, point)", "normal_of(plane)", "opposite(half)", "plane_through(p, q, r)",
+        "half_through(p, q, r, inside)", "parallel(first, second)", "meeting_point(first, second, third)"],
+    "systems": [
+        "is_conditions(value)", "holds(conditions, point)", "closed(conditions)", "common_point(conditions)",
+        "has_point(conditions)", "is_refutation(conditions, value)", "dimension(conditions)",
+        "pair_table(first, second)", "is_pair_table(first, second, value)", "sign_rows(planes)"],
+    "moves": [
+        "make_move(rows, shift)", "is_move(value)", "shift_by(step)", "scale_by(factors)", "mirror_axis(axis)",
+        "quarter_turn(axis, times=1)", "moved_point(move, point)", "moved_vector(move, direction)",
+        "moved_half(move, half)", "combine(first, second)", "inverse(move)", "determinant(move)", "mirrors(move)"],
+    "expressions": [
+        "is_expression(value)", "size(expression)", "depth(expression)", "halves_of(expression)",
+        "planes_of(expression)", "check_expression(expression)", "without_moves(expression)",
+        "truth(expression, sides)", "part_at(expression, path)", "replace_at(expression, path, part)"],
+    "trees": [
+        "is_tree(value)", "node_count(tree)", "tree_depth(tree)", "tree_planes(tree)", "cells(tree)", "in_cells(tree)",
+        "out_cells(tree)", "tree_expression(tree)", "read_tree(tree, point)", "is_reduced(tree)", "cell_points(tree)",
+        "tree_text(tree)", "parse_tree(text)"],
+}
+
+EXAMPLES = '''
+>>> from everypoint.ratios import ratio
+>>> ratio(6, -4)
+(-3, 2)
+
+>>> from everypoint.ratios import parse_ratio
+>>> parse_ratio("-3/2")
+(-3, 2)
+
+>>> from everypoint.ratios import parse_ratio
+>>> parse_ratio("2/4")
+raises TextFault
+
+>>> from everypoint.planes import make_half
+>>> make_half(0, 0, (-1, 2), 3)
+((0, 0, 1, -6), -1)
+
+>>> from everypoint.planes import value_at
+>>> value_at((0, 0, 1, -6), ((0, 1), (0, 1), (1, 2)))
+(-11, 2)
+
+>>> from everypoint.systems import is_refutation
+>>> is_refutation([((0, 0, 1, 0), 1), ((0, 0, 1, 0), -1)], [(1, 1), (1, 1)])
+True
+
+>>> from everypoint.systems import sign_rows
+>>> sign_rows([(0, 0, 1, 0), (0, 0, 1, -1)])
+[(-1, -1), (1, -1), (1, 1)]
+'''
+
+LAYER = ((0, 0, 1, -2), "out", ((0, 0, 1, 0), "in", "out"))
+SOLID = ("take", ("move", quarter_turn(2), ("half", X0, 1)), ("outside", ("half", Z0, -1)))
+P, Q, R = point(1, 2, 3), point((1, 2), 0, -1), point(0, (-2, 3), 5)
+ENTRY = [(1, 1), (1, 1)]
+
+# For each function arguments by name, in their order.
+CALLS = {
+    "ratios": {
+        "ratio": {"top": 6, "bottom": -4}, "is_ratio": {"value": (1, 2)}, "as_ratio": {"number": 5},
+        "add": {"x": (1, 2), "y": (1, 3)}, "subtract": {"x": (1, 2), "y": (1, 3)},
+        "multiply": {"x": (1, 2), "y": (2, 3)}, "divide": {"x": (1, 2), "y": (1, 3)}, "negate": {"x": (1, 2)},
+        "sign": {"x": (-1, 2)}, "compare": {"x": (1, 2), "y": (1, 3)}, "middle": {"x": (1, 2), "y": (1, 3)},
+        "sort_ratios": {"values": [(2, 1), (1, 2), (2, 1)]}, "ratio_text": {"x": (1, 2)}, "parse_ratio": {"text": "1/2"},
+        "is_name": {"value": "box"}},
+    "vectors": {
+        "vector": {"x": 1, "y": (1, 2), "z": 0}, "is_vector": {"value": P}, "plus": {"u": P, "v": Q},
+        "minus": {"u": P, "v": Q}, "scaled": {"factor": (1, 2), "v": P}, "dot": {"u": P, "v": Q},
+        "cross": {"u": P, "v": Q}, "triple": {"u": P, "v": Q, "w": R}, "is_zero": {"v": P}, "axis_vector": {"axis": 1},
+        "blend": {"p": P, "q": Q, "t": (1, 3)}, "compare_points": {"p": P, "q": Q},
+        "sort_points": {"points": [P, Q, R, P]}, "in_line": {"p": P, "q": Q, "r": R},
+        "strictly_between": {"p": P, "q": Q, "r": R}},
+    "planes": {
+        "make_half": {"a": 0, "b": -2, "c": (1, 2), "d": 3}, "make_plane": {"a": 0, "b": -2, "c": (1, 2), "d": 3},
+        "is_plane": {"value": X0}, "is_half": {"value": (X0, 1)}, "value_at": {"plane": (1, 2, 3, 4), "point": Q},
+        "side_of": {"plane": (1, 2, 3, 4), "point": Q}, "normal_of": {"plane": (1, 2, 3, 4)},
+        "opposite": {"half": (X0, 1)}, "plane_through": {"p": P, "q": Q, "r": R},
+        "half_through": {"p": P, "q": Q, "r": R, "inside": point(9, 9, 9)}, "parallel": {"first": X0, "second": Y0},
+        "meeting_point": {"first": X0, "second": (0, 2, 0, 1), "third": (1, 1, 1, 1)}},
+    "systems": {
+        "is_conditions": {"value": [(X0, 1)]}, "holds": {"conditions": [(X0, 1), (Y0, 2)], "point": P},
+        "closed": {"conditions": [(X0, 1), (Y0, 2)]}, "common_point": {"conditions": [(X0, 1), (Y0, -2), (X0, -1)]},
+        "has_point": {"conditions": [(X0, 1), (Y0, -2)]},
+        "is_refutation": {"conditions": [(X0, 1), (X0, -1)], "value": ENTRY},
+        "dimension": {"conditions": [(X0, 2), (X0, -2)]},
+        "pair_table": {"first": [[(X0, 1)], [(X0, 1)]], "second": [[(X0, -1)], [(X0, -2)]]},
+        "is_pair_table": {"first": [[(X0, 1)]], "second": [[(X0, -1)]], "value": [[ENTRY]]},
+        "sign_rows": {"planes": [Z0, Y0, (1, 1, 1, 1)]}},
+    "moves": {
+        "make_move": {"rows": [[1, 2, 0], (0, 1, 0), [0, 0, (1, 2)]], "shift": [0, 1, (1, 2)]}, "is_move": {"value": STILL},
+        "shift_by": {"step": P}, "scale_by": {"factors": P}, "mirror_axis": {"axis": 2},
+        "quarter_turn": {"axis": 1, "times": 3}, "moved_point": {"move": shift_by(Q), "point": P},
+        "moved_vector": {"move": quarter_turn(0), "direction": P}, "moved_half": {"move": shift_by(Q), "half": (X0, 1)},
+        "combine": {"first": shift_by(Q), "second": quarter_turn(0)}, "inverse": {"move": shift_by(Q)},
+        "determinant": {"move": quarter_turn(0)}, "mirrors": {"move": STILL}},
+    "expressions": {
+        "is_expression": {"value": SOLID}, "size": {"expression": SOLID}, "depth": {"expression": SOLID},
+        "halves_of": {"expression": SOLID}, "planes_of": {"expression": SOLID}, "check_expression": {"expression": SOLID},
+        "without_moves": {"expression": SOLID}, "truth": {"expression": ("half", X0, 1), "sides": {X0: -1}},
+        "part_at": {"expression": SOLID, "path": [0, 0]},
+        "replace_at": {"expression": SOLID, "path": [1, 0], "part": ("full",)}},
+    "trees": {
+        "is_tree": {"value": LAYER}, "node_count": {"tree": LAYER}, "tree_depth": {"tree": LAYER},
+        "tree_planes": {"tree": LAYER}, "cells": {"tree": LAYER}, "in_cells": {"tree": LAYER},
+        "out_cells": {"tree": LAYER}, "tree_expression": {"tree": LAYER}, "read_tree": {"tree": LAYER, "point": P},
+        "is_reduced": {"tree": LAYER}, "cell_points": {"tree": LAYER}, "tree_text": {"tree": LAYER},
+        "parse_tree": {"text": "cut 1 0 0 0\n  in\n  out"}},
+}
+
+TABLE_OF_ANSWERS = '''
+from everypoint.systems import common_point, pair_table, sign_rows
+from everypoint.trees import cell_points
+from everypoint.expressions import planes_of
+planes = [(1, k, k * k, k ** 3 - 2) for k in (3, -2, 5, 0, -4)]
+conditions = [(plane, need) for plane in planes for need in (1, 2)]
+print(sign_rows(planes), common_point(conditions), common_point(conditions + [(planes[0], -1)]))
+print(pair_table([conditions, conditions[2:]], [conditions[:2]]))
+print(pair_table([conditions[:2]], [[(planes[0], -2)], [(planes[0], -1), (planes[1], 0)]]))
+print(cell_points((planes[1], (planes[0], "in", "out"), "in")))
+print(planes_of(("join", ("half", planes[0], 1), ("join", ("half", planes[1], 1), ("half", planes[2], 1)))))
+'''
+
+
+def function_named(module, name):
+    return getattr(importlib.import_module("everypoint." + module), name)
+
+
+def all_calls():
+    for module, calls in CALLS.items():
+        for name, named in calls.items():
+            yield module, name, function_named(module, name), named
+
+
+def plain_kinds(value):
+    """True if the value has only Python's own kinds and is no float, set or dict."""
+    if isinstance(value, (list, tuple)):
+        return type(value) in (list, tuple) and all(plain_kinds(member) for member in value)
+    return value is None or type(value) in (int, str, bool)
+
+
+class TestNames(SpaceTest):
+
+    def test_signatures(self):
+        for module, listed in SIGNATURES.items():
+            for entry in listed:
+                function = function_named(module, entry[:entry.index("(")])
+                self.assertEqual(function.__name__ + str(inspect.signature(function)), entry)
+
+    def test_each_function_is_defined_where_it_is_listed(self):
+        for module, listed in SIGNATURES.items():
+            for entry in listed:
+                function = function_named(module, entry[:entry.index("(")])
+                self.assertTrue(inspect.isfunction(function))
+                self.assertEqual(function.__module__, "everypoint." + module)
+
+    def test_every_listed_function_is_called_here(self):
+        for module, listed in SIGNATURES.items():
+            self.assertEqual(list(CALLS[module]), [entry[:entry.index("(")] for entry in listed])
+
+
+class TestCalls(SpaceTest):
+
+    def test_by_position_and_by_name(self):
+        for module, name, function, named in all_calls():
+            given = copy.deepcopy(named)
+            by_position = function(*given.values())
+            by_name = function(**copy.deepcopy(named))
+            backwards = function(**dict(reversed(list(copy.deepcopy(named).items()))))
+            self.assert_same(by_name, by_position, name)
+            self.assert_same(backwards, by_position, name)
+
+    def test_arguments_stay_as_they_were(self):
+        for module, name, function, named in all_calls():
+            given = copy.deepcopy(named)
+            function(**given)
+            self.assertEqual(
+                [(key, kinds_of(value)) for key, value in given.items()],
+                [(key, kinds_of(value)) for key, value in named.items()], name)
+
+    def test_kinds_of_answers(self):
+        for module, name, function, named in all_calls():
+            answer = function(**copy.deepcopy(named))
+            self.assertTrue(plain_kinds(answer), name)
+            if name.startswith("is_") or name in ("in_line", "strictly_between", "parallel", "holds", "has_point",
+                                                  "mirrors", "truth"):
+                self.assertIs(type(answer), bool, name)
+            if name in ("sort_ratios", "sort_points", "closed", "sign_rows", "halves_of", "planes_of", "tree_planes",
+                        "cells", "in_cells", "out_cells", "cell_points"):
+                self.assertIs(type(answer), list, name)
+
+    def test_no_list_is_shared(self):
+        for module, name, function, named in all_calls():
+            given = copy.deepcopy(named)
+            answer = function(**given)
+            expected = kinds_of(answer)
+            lists = lists_in(answer)
+            places = [id(member) for member in lists + lists_in(list(given.values()))]
+            self.assertEqual(len(set(places)), len(places), name)
+            for member in lists:
+                member.append("changed")
+            self.assertEqual(kinds_of(function(**given)), expected, name)
+
+    def test_a_list_that_was_passed_and_is_changed_has_no_effect(self):
+        for module, name, function, named in all_calls():
+            given = copy.deepcopy(named)
+            answer = function(**given)
+            expected = kinds_of(answer)
+            for member in lists_in(list(given.values())):
+                member.clear()
+            self.assertEqual(kinds_of(answer), expected, name)
+
+    def test_the_same_answer_in_different_runs(self):
+        answers = []
+        for seed in ("0", "1", "77"):
+            environment = dict(os.environ, PYTHONHASHSEED=seed, PYTHONPATH=ROOT)
+            done = subprocess.run(
+                [sys.executable, "-c", TABLE_OF_ANSWERS], env=environment, capture_output=True, text=True, check=True)
+            answers.append(done.stdout)
+        self.assertEqual(len(answers[0].split("\n")), 6)
+        self.assertEqual(answers, answers[:1] * 3)
+
+
+class TestExamples(SpaceTest):
+
+    def test_word_for_word(self):
+        examples = [block.split("\n") for block in EXAMPLES.strip().split("\n\n")]
+        self.assertEqual(len(examples), 7)
+        for lines in examples:
+            names = {}
+            exec(lines[0].removeprefix(">>> "), names)
+            call = lines[1].removeprefix(">>> ")
+            if lines[2].startswith("raises "):
+                with self.assertRaises(getattr(errors, lines[2].removeprefix("raises "))):
+                    eval(call, names)
+            else:
+                self.assertEqual(repr(eval(call, names)), lines[2])
+
+
+class TestPlainRules(SpaceTest):
+
+    def test_negative_indexes_do_not_count_from_the_end(self):
+        part_at = function_named("expressions", "part_at")
+        self.assert_error("BadPath", part_at, SOLID, [-1])
+        self.assert_error("BadPath", part_at, SOLID, [1, -1])
+
+    def test_a_bool_is_no_integer_at_any_place(self):
+        for module, name, value in (
+                ("ratios", "is_ratio", (True, 1)), ("ratios", "is_ratio", (1, True)),
+                ("vectors", "is_vector", ((1, True), (1, 1), (1, 1))), ("planes", "is_plane", (True, 0, 0, 0)),
+                ("planes", "is_half", (X0, True)), ("systems", "is_conditions", [(X0, True)]),
+                ("systems", "is_conditions", [(X0, False)]), ("moves", "is_move", (STILL[0], ((False, 1),) * 3)),
+                ("expressions", "is_expression", ("half", X0, True)), ("trees", "is_tree", (X0, "in", True)),
+                ("trees", "is_tree", (plane_at(2, 0)[:2] + (True, 0), "in", "out"))):
+            self.assertIs(function_named(module, name)(value), False, (name, value))
+
+
+if __name__ == "__main__":
+    unittest.main()
