@@ -137,8 +137,8 @@ def read_ratio(text):
     """Returns the ratio whose word the text is, or None if it is no such word."""
     if is_integer_word(text):
         return (int(text), 1)
-    top, slash, bottom = text.partition("/")
-    if not slash or not is_integer_word(top) or not is_integer_word(bottom):
+    top, _, bottom = text.partition("/")
+    if not is_integer_word(top) or not is_integer_word(bottom):
         return None
     x = (int(top), int(bottom))
     if x[1] == 1 or not is_ratio(x):

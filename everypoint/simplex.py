@@ -23,7 +23,7 @@ class Tableau:
 
     def __init__(self, columns):
         self.width = len(columns)
-        self.rows = [
+        self.entries = [
             [column[at] for column in columns] + [int(unit == at) for unit in range(EQUATIONS)]
             for at in range(EQUATIONS + 1)
         ]
@@ -32,32 +32,32 @@ class Tableau:
 
     def pivot(self, at, column):
         """Takes the column into the basis, at the place of this row."""
-        chosen = self.rows[at]
+        chosen = self.entries[at]
         entry = chosen[column]
         divisor = self.divisor
         for k in range(EQUATIONS + 1):
-            row = self.rows[k]
+            row = self.entries[k]
             factor = row[column]
             if k != at and (factor != 0 or entry != divisor):
                 # The division leaves no rest: the quotients are determinants of the first columns.
-                self.rows[k] = [(entry * x - factor * y) // divisor for x, y in zip(row, chosen)]
+                self.entries[k] = [(entry * x - factor * y) // divisor for x, y in zip(row, chosen)]
         self.basis[at] = column
         self.divisor = entry
 
     def fill_basis(self):
         """Takes a column into the basis for each row that is not zero throughout."""
         for at in range(EQUATIONS):
-            row = self.rows[at]
+            row = self.entries[at]
             column = self.first_column(at, (-1, 1))
             if column is not None:
                 if row[column] < 0:
                     # The sum of an equation is zero, so its row may be turned to keep the divisor above zero.
-                    self.rows[at] = [-x for x in row]
+                    self.entries[at] = [-x for x in row]
                 self.pivot(at, column)
 
     def first_column(self, at, signs):
         """Returns the first column whose entry in the row has one of the signs, or None."""
-        row = self.rows[at]
+        row = self.entries[at]
         for column in range(self.width):
             if integer_sign(row[column]) in signs:
                 return column
@@ -72,7 +72,7 @@ class Tableau:
         # Taking the least column in and the least one out (Bland's rule) never comes back to a basis.
         best = None
         for at in range(EQUATIONS):
-            if self.rows[at][column] > 0 and (best is None or self.basis[at] < self.basis[best]):
+            if self.entries[at][column] > 0 and (best is None or self.basis[at] < self.basis[best]):
                 best = at
         return best
 
@@ -82,14 +82,14 @@ class Tableau:
         found[column] = self.divisor
         for at in range(EQUATIONS):
             if self.basis[at] is not None:
-                found[self.basis[at]] = -self.rows[at][column]
+                found[self.basis[at]] = -self.entries[at][column]
         return found
 
     def solution(self):
         """Returns integers (x, y, z, w), w above zero, if no column would raise the fifth row."""
         # The fifth row is now its first form minus x, y, z and w times the first four rows,
         # and at most zero throughout; so each column's sum with (x, y, z, w) is at least its strict.
-        last = self.rows[EQUATIONS]
+        last = self.entries[EQUATIONS]
         return [-last[self.width + at] for at in range(EQUATIONS)]
 
 
@@ -103,13 +103,14 @@ def solve(columns):
             return ("point", tableau.solution())
         at = tableau.leaving(column)
         if at is None:
+            # SLACK alone cannot make up the zero of the fourth row, so some other weight is above zero.
             return ("none", reduced(tableau.weights(column)[:-1]))
         tableau.pivot(at, column)
 
 
 def reduced(integers):
-    """Returns integers divided by what they share, if they are not all zero."""
+    """Returns the integers divided by what they share; at least one of them is not zero."""
     shared = 0
     for x in integers:
         shared = gcd(shared, x)
-    return [x // max(shared, 1) for x in integers]
+    return [x // shared for x in integers]

@@ -55,6 +55,7 @@ class TestKinds(SpaceTest):
                 (), ("empty", EMPTY), ("empty", 1), ("full", FULL), ["empty"], "empty", ("nothing",), ("half", X0),
                 ("half", X0, 0), ("half", X0, True), ("half", X0, 1, 1), ("half", (0, 0, 2, 4), 1), ("half", list(X0), 1),
                 ("half", (X0, 1)), ["half", X0, 1], ("join", A), ("join", A, B, C), ("join", A, None), ("join", [A, B]),
+                ("join", None, A), ("meet", "full", A), ("take", [], A), ("moved", UP, A), (None, UP, A), ("half", UP, A),
                 ("meet",), ("take", A, ["half", X0, 1]), ("outside",), ("outside", A, B), ("outside", "full"),
                 ("move", A), ("move", A, UP), ("move", UP, A, B), ("move", UP, UP), ("move", list(UP), A), ("move", UP),
                 ("move", (UP[0], (0, 0, 0)), A), ("move", ((UP[1],) * 3, UP[1]), A), ("Empty",), ("join", A, ("half",)),

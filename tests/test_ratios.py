@@ -110,6 +110,10 @@ class TestSorting(SpaceTest):
         self.assert_same(sort_ratios(close), expected)
         self.assert_same(sort_ratios([negate(x) for x in close]), [negate(x) for x in reversed(expected)])
 
+    def test_close_neighbours_of_zero(self):
+        for listed in ([(1, BIG), (1, BIG - 1)], [(1, BIG - 1), (1, BIG)]):
+            self.assert_same(sort_ratios(listed), [(1, BIG), (1, BIG - 1)])
+
     def test_against_fractions(self):
         chooser = random.Random(7)
         for _ in range(100):
