@@ -39,9 +39,14 @@ def parts_of(expression):
     return ()
 
 
+def nodes_of(expression):
+    """Returns the nodes, each before those of its parts."""
+    return [expression] + [node for part in parts_of(expression) for node in nodes_of(part)]
+
+
 def size(expression):
     """Returns the number of nodes."""
-    return 1 + sum([size(part) for part in parts_of(expression)])
+    return len(nodes_of(expression))
 
 
 def depth(expression):
@@ -71,16 +76,9 @@ def without_moves(expression):
     return unmoved(expression, ())
 
 
-def half_nodes(expression):
-    """Returns the tuples (plane, side) of the half nodes, left to right, as they stand."""
-    if expression[0] == "half":
-        return [expression[1:]]
-    return [half for part in parts_of(expression) for half in half_nodes(part)]
-
-
 def halves_of(expression):
     """Returns the halves, left to right, moved, with duplicates."""
-    return half_nodes(without_moves(expression))
+    return [node[1:] for node in nodes_of(without_moves(expression)) if node[0] == "half"]
 
 
 def planes_of(expression):

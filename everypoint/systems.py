@@ -178,22 +178,30 @@ def is_pair_table(first, second, value):
     return True
 
 
+def cut_sides(conditions, plane, point):
+    """Returns a list of tuples (side, p), front first: the sides of the plane that the conditions reach.
+
+    The point that is passed is a common point of the conditions; p is one at this side of the plane.
+    """
+    side = side_of(plane, point)
+    found = []
+    for other in (1, -1):
+        if other == side:
+            found.append((other, point))
+        elif (plane, -other) not in conditions:
+            kind, place = common_point(conditions + [(plane, other)])
+            if kind == "point":
+                found.append((other, place))
+    return found
+
+
 def parted_cell(planes, signs, point):
     """Returns the parts into which the plane behind those of the signs cuts their cell.
 
     The parts are tuples (signs, point); the point that is passed lies in the cell.
     """
-    plane = planes[len(signs)]
-    side = side_of(plane, point)
-    parts = []
-    for other in (-1, 1):
-        if other == side:
-            parts.append((signs + (other,), point))
-        else:
-            kind, found = common_point(list(zip(planes, signs + (other,))))
-            if kind == "point":
-                parts.append((signs + (other,), found))
-    return parts
+    sides = cut_sides(list(zip(planes, signs)), planes[len(signs)], point)
+    return [(signs + (side,), place) for side, place in sides]
 
 
 def sign_rows(planes):

@@ -9,7 +9,10 @@ import sys
 import unittest
 
 from everypoint import errors
+from everypoint.faces import faces
+from everypoint.keeping import kept_tree
 from everypoint.moves import STILL, quarter_turn, shift_by
+from samples import RING
 from support import X0, Y0, Z0, SpaceTest, kinds_of, lists_in, plane_at, point
 
 ROOT = os.path.dirname(os.path.dirname(os.path.abspath(__file__)))
@@ -43,7 +46,30 @@ SIGNATURES = {
         "is_tree(value)", "node_count(tree)", "tree_depth(tree)", "tree_planes(tree)", "cells(tree)", "in_cells(tree)",
         "out_cells(tree)", "tree_expression(tree)", "read_tree(tree, point)", "is_reduced(tree)", "cell_points(tree)",
         "tree_text(tree)", "parse_tree(text)"],
+    "walls": ["walls(tree)", "walls_unlike(tree)", "is_kept(tree)"],
+    "wording": ["expression_text(expression)", "parse_expression(text)"],
+    "reading": ["read_expression(expression, point)", "truth_rows(expression)"],
+    "keeping": [
+        "kept_tree(expression)", "keep(tree)", "join_trees(first, second)", "meet_trees(first, second)",
+        "take_trees(first, second)", "outside_tree(tree)", "move_tree(move, tree)", "inner_point(tree)",
+        "outer_point(tree)", "is_empty(tree)", "is_full(tree)", "same_solid(first, second)", "within(first, second)",
+        "difference_point(first, second)", "outlying_point(first, second)"],
+    "shapes": [
+        "meet_all(parts)", "join_all(parts)", "box(low, high)", "wedge(low, high)", "prism(corners, low, high)",
+        "tetrahedron(p, q, r, s)", "hull(points)", "copies(expression, count, *, step)", "octahedron(centre, reach)",
+        "slab(plane, other)"],
+    "polygons": [
+        "is_bounded_cell(cell)", "far_direction(cell)", "cell_corners(cell)", "is_bounded_patch(plane, bounds)",
+        "patch_corners(plane, bounds)", "area_vector(corners)", "cell_facets(cell)", "cell_volume(cell)",
+        "is_bounded(tree)", "far_ray(tree)"],
+    "faces": [
+        "faces(tree)", "on_face(face, point)", "faces_at(listed, point)", "outward_normal(face)", "face_corners(face)",
+        "area_sum(listed)", "open_edges(listed)", "read_faces(listed, point)", "tree_of_faces(listed)"],
+    "volumes": [
+        "volume_by_cells(tree)", "volume_by_faces(tree)", "section(tree, plane)", "section_area(tree, plane, *, axis=2)"],
 }
+# What can be passed by its name only.
+NAMED_ONLY = {"copies": ["step"], "section_area": ["axis"]}
 
 EXAMPLES = '''
 >>> from everypoint.ratios import ratio
@@ -73,12 +99,43 @@ True
 >>> from everypoint.systems import sign_rows
 >>> sign_rows([(0, 0, 1, 0), (0, 0, 1, -1)])
 [(-1, -1), (1, -1), (1, 1)]
+
+>>> from everypoint.wording import parse_expression
+>>> parse_expression("outside\\n  half 0 0 1 -6 -")
+('outside', ('half', (0, 0, 1, -6), -1))
+
+>>> from everypoint.wording import parse_expression
+>>> parse_expression("join\\n  full")
+raises TextFault
+
+>>> from everypoint.wording import parse_expression
+>>> parse_expression("half 0 0 2 4 +")
+raises TextFault
+
+>>> from everypoint.reading import truth_rows
+>>> truth_rows(("outside", ("half", (0, 0, 1, 0), 1)))
+[((-1,), True), ((1,), False)]
+
+>>> from everypoint.keeping import kept_tree
+>>> kept_tree(("half", (0, 0, 1, 0), 1))
+((0, 0, 1, 0), 'in', 'out')
+
+>>> from everypoint.keeping import kept_tree
+>>> kept_tree(("join", ("half", (0, 0, 1, 0), 1), ("half", (0, 0, 1, 0), -1)))
+'in'
+
+>>> from everypoint.keeping import kept_tree
+>>> kept_tree(("meet", ("half", (0, 0, 1, 0), 1), ("half", (0, 0, 1, -2), -1)))
+((0, 0, 1, -2), 'out', ((0, 0, 1, 0), 'in', 'out'))
 '''
 
 LAYER = ((0, 0, 1, -2), "out", ((0, 0, 1, 0), "in", "out"))
 SOLID = ("take", ("move", quarter_turn(2), ("half", X0, 1)), ("outside", ("half", Z0, -1)))
 P, Q, R = point(1, 2, 3), point((1, 2), 0, -1), point(0, (-2, 3), 5)
 ENTRY = [(1, 1), (1, 1)]
+RING_TREE = kept_tree(RING)
+CELL = [(X0, 1), (plane_at(0, 1), -1), (Y0, 1), (plane_at(1, 1), -1), (Z0, 1), (plane_at(2, 1), -1)]
+FACE, SAME_FACE = (Z0, 1, CELL[:4]), (Z0, 1, CELL[:4])
 
 # For each function arguments by name, in their order.
 CALLS = {
@@ -131,6 +188,39 @@ CALLS = {
         "out_cells": {"tree": LAYER}, "tree_expression": {"tree": LAYER}, "read_tree": {"tree": LAYER, "point": P},
         "is_reduced": {"tree": LAYER}, "cell_points": {"tree": LAYER}, "tree_text": {"tree": LAYER},
         "parse_tree": {"text": "cut 1 0 0 0\n  in\n  out"}},
+    "walls": {"walls": {"tree": RING_TREE}, "walls_unlike": {"tree": RING_TREE}, "is_kept": {"tree": RING_TREE}},
+    "wording": {"expression_text": {"expression": SOLID}, "parse_expression": {"text": "take\n  full\n  half 1 0 0 0 +"}},
+    "reading": {"read_expression": {"expression": RING, "point": P}, "truth_rows": {"expression": SOLID}},
+    "keeping": {
+        "kept_tree": {"expression": RING}, "keep": {"tree": (X0, LAYER, "out")},
+        "join_trees": {"first": LAYER, "second": (X0, "in", "out")},
+        "meet_trees": {"first": LAYER, "second": (X0, "in", "out")},
+        "take_trees": {"first": LAYER, "second": (X0, "in", "out")}, "outside_tree": {"tree": LAYER},
+        "move_tree": {"move": quarter_turn(0), "tree": LAYER}, "inner_point": {"tree": LAYER}, "outer_point": {"tree": LAYER},
+        "is_empty": {"tree": LAYER}, "is_full": {"tree": LAYER}, "same_solid": {"first": LAYER, "second": RING_TREE},
+        "within": {"first": RING_TREE, "second": LAYER}, "difference_point": {"first": RING_TREE, "second": LAYER},
+        "outlying_point": {"first": LAYER, "second": RING_TREE}},
+    "shapes": {
+        "meet_all": {"parts": [SOLID, ("full",), SOLID]}, "join_all": {"parts": [SOLID, ("full",)]},
+        "box": {"low": Q, "high": P}, "wedge": {"low": Q, "high": P},
+        "prism": {"corners": [(0, 0), ((1, 2), 0), (0, (3, 1))], "low": (1, 2), "high": 3},
+        "tetrahedron": {"p": P, "q": Q, "r": R, "s": point(9, 8, 8)}, "hull": {"points": [P, Q, R, point(9, 8, 8), P]},
+        "copies": {"expression": SOLID, "count": 3, "step": P}, "octahedron": {"centre": P, "reach": (2, 3)},
+        "slab": {"plane": (0, 0, 2, 1), "other": Z0}},
+    "polygons": {
+        "is_bounded_cell": {"cell": CELL}, "far_direction": {"cell": CELL[:3]}, "cell_corners": {"cell": CELL},
+        "is_bounded_patch": {"plane": Z0, "bounds": CELL[:4]}, "patch_corners": {"plane": Z0, "bounds": CELL[:4]},
+        "area_vector": {"corners": [P, Q, R]}, "cell_facets": {"cell": CELL}, "cell_volume": {"cell": CELL},
+        "is_bounded": {"tree": LAYER}, "far_ray": {"tree": LAYER}},
+    "faces": {
+        "faces": {"tree": RING_TREE}, "on_face": {"face": FACE, "point": P},
+        "faces_at": {"listed": [FACE, SAME_FACE], "point": point((1, 2), (1, 2), 0)}, "outward_normal": {"face": FACE},
+        "face_corners": {"face": FACE}, "area_sum": {"listed": [FACE, SAME_FACE]}, "open_edges": {"listed": [FACE, SAME_FACE]},
+        "read_faces": {"listed": faces(RING_TREE), "point": P}, "tree_of_faces": {"listed": faces(RING_TREE)}},
+    "volumes": {
+        "volume_by_cells": {"tree": RING_TREE}, "volume_by_faces": {"tree": RING_TREE},
+        "section": {"tree": RING_TREE, "plane": (0, 0, 2, -1)},
+        "section_area": {"tree": RING_TREE, "plane": (0, 0, 2, -1), "axis": 2}},
 }
 
 TABLE_OF_ANSWERS = '''
@@ -144,6 +234,20 @@ print(pair_table([conditions, conditions[2:]], [conditions[:2]]))
 print(pair_table([conditions[:2]], [[(planes[0], -2)], [(planes[0], -1), (planes[1], 0)]]))
 print(cell_points((planes[1], (planes[0], "in", "out"), "in")))
 print(planes_of(("join", ("half", planes[0], 1), ("join", ("half", planes[1], 1), ("half", planes[2], 1)))))
+from everypoint.keeping import difference_point, inner_point, kept_tree, outer_point, outlying_point
+from everypoint.polygons import cell_facets, far_direction, far_ray
+from everypoint.shapes import box, hull
+from everypoint.faces import faces, open_edges, tree_of_faces
+from everypoint.volumes import section, volume_by_faces
+points = [((k, 1), (k * k, 1), (k ** 3, 1)) for k in range(-3, 5)]
+tree = kept_tree(hull(points))
+half = (planes[0], "in", "out")
+other = kept_tree(("take", box(points[3], points[6]), box(points[4], points[5])))
+print(tree, other, inner_point(tree), outer_point(other), outlying_point(tree, other), difference_point(other, half))
+print(far_direction([(planes[0], 1), (planes[1], -1)]), far_ray(half), far_direction([]))
+print(faces(other), open_edges(faces(other)[::2]), tree_of_faces(faces(tree)), volume_by_faces(tree))
+print(section(other, (1, 1, 0, -2)), cell_facets([
+    ((1, 0, 0, 0), 1), ((0, 1, 0, 0), 1), ((0, 0, 1, 0), 1), ((1, 2, 3, -4), -1)]))
 '''
 
 
@@ -189,7 +293,8 @@ class TestCalls(SpaceTest):
     def test_by_position_and_by_name(self):
         for module, name, function, named in all_calls():
             given = copy.deepcopy(named)
-            by_position = function(*given.values())
+            named_only = {key: given.pop(key) for key in NAMED_ONLY.get(name, [])}
+            by_position = function(*given.values(), **named_only)
             by_name = function(**copy.deepcopy(named))
             backwards = function(**dict(reversed(list(copy.deepcopy(named).items()))))
             self.assert_same(by_name, by_position, name)
@@ -208,10 +313,12 @@ class TestCalls(SpaceTest):
             answer = function(**copy.deepcopy(named))
             self.assertTrue(plain_kinds(answer), name)
             if name.startswith("is_") or name in ("in_line", "strictly_between", "parallel", "holds", "has_point",
-                                                  "mirrors", "truth"):
+                                                  "mirrors", "truth", "same_solid", "within", "on_face"):
                 self.assertIs(type(answer), bool, name)
             if name in ("sort_ratios", "sort_points", "closed", "sign_rows", "halves_of", "planes_of", "tree_planes",
-                        "cells", "in_cells", "out_cells", "cell_points"):
+                        "cells", "in_cells", "out_cells", "cell_points", "walls", "walls_unlike", "truth_rows",
+                        "cell_corners", "patch_corners", "cell_facets", "faces", "faces_at", "face_corners",
+                        "open_edges", "section"):
                 self.assertIs(type(answer), list, name)
 
     def test_no_list_is_shared(self):
@@ -242,7 +349,7 @@ class TestCalls(SpaceTest):
             done = subprocess.run(
                 [sys.executable, "-c", TABLE_OF_ANSWERS], env=environment, capture_output=True, text=True, check=True)
             answers.append(done.stdout)
-        self.assertEqual(len(answers[0].split("\n")), 6)
+        self.assertEqual(len(answers[0].split("\n")), 10)
         self.assertEqual(answers, answers[:1] * 3)
 
 
@@ -250,7 +357,7 @@ class TestExamples(SpaceTest):
 
     def test_word_for_word(self):
         examples = [block.split("\n") for block in EXAMPLES.strip().split("\n\n")]
-        self.assertEqual(len(examples), 7)
+        self.assertEqual(len(examples), 14)
         for lines in examples:
             names = {}
             exec(lines[0].removeprefix(">>> "), names)

@@ -11,7 +11,7 @@ PACKAGE = os.path.join(ROOT, "everypoint")
 LIBRARY = {"math": {"gcd", "lcm", "isqrt", "comb", "perm", "factorial"}}
 BUILTINS = set(
     "len range enumerate zip min max sum abs sorted reversed int str bool bytes list tuple dict set isinstance ord "
-    "repr any all divmod getattr hasattr Exception ValueError TypeError KeyError IndexError LookupError "
+    "repr any all divmod iter getattr hasattr Exception ValueError TypeError KeyError IndexError LookupError "
     "ZeroDivisionError NotImplemented True False None property staticmethod classmethod super".split())
 METHODS = set(
     "append clear copy count endswith extend find get index insert isalnum isalpha isdigit islower isspace isupper "
@@ -21,6 +21,11 @@ BARRED_WORDS = set(
     "type typing typing_extensions enum Enum IntEnum StrEnum Flag IntFlag Generic Protocol ABC ABCMeta namedtuple "
     "NamedTuple TypedDict TYPE_CHECKING abstractmethod register mro elements open input law version_info "
     "with_traceback add_note eval exec id dir vars globals locals compile help exit quit os sys".split())
+DOUBLE_UNDERSCORE_METHODS = {
+    "__init__", "__eq__", "__str__", "__len__", "__iter__", "__add__", "__sub__", "__mul__", "__neg__"}
+METHOD_FORMS = {
+    "__iter__": r"^return iter\(self\.\w+\)$", "__len__": r"^return len\(.*\)$", "__str__": r"^return str\(.*\)$",
+    "__eq__": r"^return isinstance\(other, (\w+)\) and self\.(\w+) == other\.\2$"}
 BARRED_NODES = (
     ast.GeneratorExp, ast.Global, ast.AsyncFunctionDef, ast.Await, ast.Div, ast.MatMult, ast.Pow,
     ast.AnnAssign, ast.Try, ast.With, ast.NamedExpr, ast.Import, ast.Yield, ast.YieldFrom)
@@ -146,12 +151,50 @@ class TestLanguage(unittest.TestCase):
                     self.assertNotIsInstance(node.value, (float, complex))
                     if isinstance(node.value, str):
                         self.assertNotIn("%", node.value)
-                if isinstance(node, (ast.FunctionDef, ast.ClassDef)):
+                if isinstance(node, ast.ClassDef):
                     self.assertEqual(node.decorator_list, [])
+                    self.check_methods(node, name)
                 if isinstance(node, ast.Compare):
                     self.check_identity(node)
                 if isinstance(node, ast.Call):
                     self.check_call(node, name)
+
+    def test_decorators_stand_over_methods_alone(self):
+        for name, text, tree in sources():
+            methods = [
+                part for node in tree.body if isinstance(node, ast.ClassDef) for part in node.body
+                if isinstance(part, ast.FunctionDef)]
+            for function in functions_of(tree):
+                if function not in methods:
+                    self.assertEqual(function.decorator_list, [], f"{name}: {function.name}")
+
+    def check_methods(self, node, name):
+        """The forms of decorators and of the double-underscore methods."""
+        for method in [part for part in node.body if isinstance(part, ast.FunctionDef)]:
+            place = f"{name}: {method.name}"
+            self.assertIn(
+                [ast.unparse(mark) for mark in method.decorator_list],
+                [[], ["property"], ["staticmethod"], ["classmethod"]], place)
+            if method.name.startswith("__"):
+                self.assertIn(method.name, DOUBLE_UNDERSCORE_METHODS, place)
+                self.assertEqual(method.decorator_list, [], place)
+            statements = [part for part in method.body if ast.get_docstring(method) is None or part != method.body[0]]
+            form = METHOD_FORMS.get(method.name)
+            if form is not None:
+                self.assertEqual(len(statements), 1, place)
+                self.assertRegex(ast.unparse(statements[0]), form, place)
+
+    def test_iter_stands_in_its_method_alone(self):
+        for name, text, tree in sources():
+            calls = [
+                node for node in ast.walk(tree) if isinstance(node, ast.Name) and node.id == "iter"]
+            methods = [function for function in functions_of(tree) if function.name == "__iter__"]
+            self.assertEqual(len(calls), len(methods), name)
+
+    def test_words_that_stand_nowhere(self):
+        for name, text, tree in sources():
+            for word in ("_wall", "_WallAttr", "_enum_", "_pe_", "_dcw_"):
+                self.assertNotIn(word, text, name)
 
     def check_identity(self, node):
         for operator, right in zip(node.ops, node.comparators):
