@@ -1,7 +1,7 @@
 """Faces (plane, inner, bounds): where the reading of a solid changes, and what they tell of the solid."""
 
 from everypoint.errors import Unbounded
-from everypoint.keeping import flipped, tree_of_rows
+from everypoint.keeping import tree_of_rows
 from everypoint.planes import normal_of, side_of, value_at
 from everypoint.polygons import area_vector, is_bounded_patch, patch_corners, seen_from
 from everypoint.ratios import divide, negate, sign
@@ -138,10 +138,10 @@ def read_faces(listed, point):
     return "out" if times % 2 == 0 else "in"
 
 
-def rows_beside(listed, planes, rows):
-    """Returns a dict with the truths of those sign rows whose cells lie against a face of the list."""
+def rows_beside(listed, planes):
+    """Returns a dict with the truths of those sign rows of the planes whose cells lie against a face of the list."""
     truths = {}
-    for signs in rows:
+    for signs in sign_rows(planes):
         sides = dict(zip(planes, signs))
         for plane, inner, bounds in listed:
             if all([sides[other] == side for other, side in bounds]):
@@ -154,16 +154,8 @@ def tree_of_faces(listed):
     check_bounded(listed)
     if not listed:
         return "out"
-    # Each plane of a kept tree has a face, and where the truth changes at a plane there is a face.
-    # So a row that lies against no face has the truths of its neighbours.
+    # Each plane of a kept tree has a face. The other rows are not needed: two neighbouring rows of
+    # unlike truths lie against a face, so the same planes show; and each leaf has an unlike wall
+    # with a leaf below the other part of its own node, so some row beside a face tells its mark.
     planes = sorted({face[0] for face in listed})
-    rows = {signs: True for signs in sign_rows(planes)}
-    truths = rows_beside(listed, planes, rows)
-    waiting = list(truths)
-    while waiting:
-        signs = waiting.pop()
-        for other in [flipped(signs, at) for at in range(len(planes))]:
-            if other in rows and other not in truths:
-                truths[other] = truths[signs]
-                waiting.append(other)
-    return tree_of_rows(planes, truths)
+    return tree_of_rows(planes, rows_beside(listed, planes))

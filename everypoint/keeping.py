@@ -27,7 +27,8 @@ def rows_with(rows, at, side):
 def tree_of_rows(planes, rows, first=0):
     """Returns the kept tree of a dict of truth rows, in which no plane before the first one shows.
 
-    The dict has for the signs of the planes, which ascend, the truth; it is not empty.
+    The dict has the truth for the signs of the planes, which ascend. Rows may be left out if the
+    same planes show without them, and if some row is left for each leaf.
     """
     for at in range(first, len(planes)):
         if shows(rows, at):

@@ -11,8 +11,7 @@ from everypoint.trees import in_cells, is_leaf
 
 def volume_by_cells(tree):
     """Returns the volume of the solid of a kept tree, as the sum of those of its "in" cells."""
-    if not is_bounded(tree):
-        raise Unbounded()
+    # If the solid is not bounded, one of these cells is not, and its volume is refused.
     total = (0, 1)
     for cell in in_cells(tree):
         total = add(total, cell_volume(cell))
@@ -21,6 +20,7 @@ def volume_by_cells(tree):
 
 def volume_by_faces(tree):
     """Returns the volume of the solid of a kept tree, from its faces."""
+    # The faces alone do not tell: those of the outside of a box are bounded.
     if not is_bounded(tree):
         raise Unbounded()
     return volume_within([face_corners(face) for face in faces(tree)])

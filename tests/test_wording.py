@@ -7,7 +7,7 @@ from everypoint.expressions import depth, planes_of, size
 from everypoint.moves import STILL, make_move, mirror_axis, quarter_turn, shift_by
 from everypoint.wording import expression_text, parse_expression
 from samples import BOUNDED, CHECKERED, EMPTY, FULL, NOT_BOUNDED, some_expression, some_planes, some_point
-from support import BIG, X0, Y0, Z0, SpaceTest, nested, plane_at, point
+from support import BIG, X0, SpaceTest, nested, plane_at, point
 
 UNIT = "1 0 0 0 1 0 0 0 1"
 HALF = ("half", (0, 0, 1, -6), -1)
