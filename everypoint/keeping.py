@@ -25,10 +25,10 @@ def rows_with(rows, at, side):
 
 
 def tree_of_rows(planes, rows, first=0):
-    """Returns the kept tree of a dict of truth rows, in which no plane before the first one shows.
+    """Returns the tree by the order of the planes of a dict of truth rows, in which none before the first one shows.
 
-    The dict has the truth for the signs of the planes, which ascend. Rows may be left out if the
-    same planes show without them, and if some row is left for each leaf.
+    The dict has the truth for the signs of the planes; if these ascend, the tree is the kept tree.
+    Rows may be left out if the same planes show without them, and if some row is left for each leaf.
     """
     for at in range(first, len(planes)):
         if shows(rows, at):
@@ -59,12 +59,16 @@ def mark_at(tree, sides):
     return tree
 
 
-def keep(tree):
-    """Returns the kept tree of the expression of any tree."""
-    planes = tree_planes(tree)
+def keep_by(tree, planes):
+    """Returns the tree by this order of its planes for the expression of any tree."""
     # The expression of the tree is true where the sides of its planes lead to a leaf "in".
     rows = {signs: mark_at(tree, dict(zip(planes, signs))) == "in" for signs in sign_rows(planes)}
     return small_enough(tree_of_rows(planes, rows))
+
+
+def keep(tree):
+    """Returns the kept tree of the expression of any tree."""
+    return keep_by(tree, tree_planes(tree))
 
 
 def with_leaves(tree, inner, outer):

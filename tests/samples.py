@@ -106,6 +106,13 @@ def some_kept_trees(chooser, make, count):
     return found
 
 
+def some_bodies(seed, count):
+    """Tuples (expression, kept tree) for bounded expressions of two shapes."""
+    chooser = random.Random(seed)
+    return some_kept_trees(
+        chooser, lambda: (chooser.choice(("join", "meet", "take")), some_body(chooser), some_body(chooser)), count)
+
+
 def telling_points(planes, chooser, most=12):
     """Points off and on the planes: in corners of three of them, on two of them, on one, and on none."""
     found = []
@@ -175,6 +182,27 @@ def row_of(axis, parts):
         tree = (plane_at(axis, k), part, tree)
     return (plane_at(axis, len(parts)), "out", tree)
 
+
+def spread_solid():
+    """A solid of two pieces: a large one, and a small bounded one that touches it in edges alone.
+
+    Only the small one has a face on the plane y = 0, by which the kept tree is cut first. Without it
+    the steep planes cut the whole space first, and in each of the parts stands what lies below.
+    """
+    across = ("half", (50, 50, 0, 1), 1)
+    steep = [("half", (3, -1, 0, c), 1) for c in (2, 4, 6, 8)]
+    gentle = [("half", (10, -30, 0, -d), 1) for d in (31, 61, 91)]
+    lowest, lower, upper = [("half", (70, 1, 2800, d), 1) for d in (2800, 0, -2800)]
+    layer, rest = ("take", lower, upper), ("join", ("take", lowest, lower), upper)
+    strips = [("take", steep[1], steep[0]), ("take", steep[3], steep[2])]
+    dents = ("join", ("join", ("take", rest, gentle[1]), ("meet", gentle[2], rest)), ("meet", ("take", gentle[1], gentle[2]), layer))
+    large = (
+        "join", ("take", across, ("meet", ("join", *strips), layer)), ("take", ("take", gentle[0], across), dents))
+    return ("join", large, ("meet", ("take", strips[1], across), ("meet", ("half", Y0, 1), layer)))
+
+
+# The kept tree has 31 nodes and 12 planes, that of its greater piece has 61 or more.
+SPREAD = spread_solid()
 
 # 14 of the 27 unit cubes from 0 to 3, no two of which touch in a face.
 CUBES_TREE = keep(row_of(2, [

@@ -10,9 +10,12 @@ import unittest
 
 from everypoint import errors
 from everypoint.faces import faces
-from everypoint.keeping import kept_tree
+from everypoint.keeping import kept_tree, outside_tree
 from everypoint.moves import STILL, quarter_turn, shift_by
-from samples import RING
+from everypoint.pieces import convex_witness
+from everypoint.rays import spans
+from everypoint.slices import slices
+from samples import RING, TWO_IN_A_CORNER
 from support import X0, Y0, Z0, SpaceTest, kinds_of, lists_in, plane_at, point
 
 ROOT = os.path.dirname(os.path.dirname(os.path.abspath(__file__)))
@@ -67,9 +70,22 @@ SIGNATURES = {
         "area_sum(listed)", "open_edges(listed)", "read_faces(listed, point)", "tree_of_faces(listed)"],
     "volumes": [
         "volume_by_cells(tree)", "volume_by_faces(tree)", "section(tree, plane)", "section_area(tree, plane, *, axis=2)"],
+    "slices": ["level_plane(axis, t)", "slices(tree, *, axis=2)", "slice_volume(listed)", "area_at(listed, t)"],
+    "rays": [
+        "is_ray(value)", "ray_point(ray, t)", "spans(tree, ray)", "read_spans(listed, t)", "in_length(listed)",
+        "first_hit(tree, ray)"],
+    "pictures": [
+        "is_camera(value)", "camera_ray(camera, column, row)", "level(normal, light, steps)",
+        "pixel(tree, camera, column, row, *, light=None, steps=7)",
+        "picture(tree, camera, width, height, *, light=None, steps=7)", "is_picture(value)", "picture_text(listed)",
+        "parse_picture(text)", "compare_pictures(first, second)"],
+    "pieces": [
+        "pieces(tree)", "hollows(tree)", "piece_at(tree, point)", "piece_tree(tree, number)", "fill_hollows(tree)",
+        "convex_witness(tree)", "is_bend(tree, value)"],
 }
 # What can be passed by its name only.
-NAMED_ONLY = {"copies": ["step"], "section_area": ["axis"]}
+NAMED_ONLY = {
+    "copies": ["step"], "section_area": ["axis"], "slices": ["axis"], "pixel": ["light", "steps"], "picture": ["light", "steps"]}
 
 EXAMPLES = '''
 >>> from everypoint.ratios import ratio
@@ -136,6 +152,9 @@ ENTRY = [(1, 1), (1, 1)]
 RING_TREE = kept_tree(RING)
 CELL = [(X0, 1), (plane_at(0, 1), -1), (Y0, 1), (plane_at(1, 1), -1), (Z0, 1), (plane_at(2, 1), -1)]
 FACE, SAME_FACE = (Z0, 1, CELL[:4]), (Z0, 1, CELL[:4])
+TWO_TREE = kept_tree(TWO_IN_A_CORNER)
+THROUGH = (point(-1, (3, 2), (1, 2)), point(1, 0, 0))
+CAMERA = ("straight", point(0, (1, 5), -1), point(0, 0, 4), point(1, 0, 0), point(0, 1, 0))
 
 # For each function arguments by name, in their order.
 CALLS = {
@@ -221,6 +240,25 @@ CALLS = {
         "volume_by_cells": {"tree": RING_TREE}, "volume_by_faces": {"tree": RING_TREE},
         "section": {"tree": RING_TREE, "plane": (0, 0, 2, -1)},
         "section_area": {"tree": RING_TREE, "plane": (0, 0, 2, -1), "axis": 2}},
+    "slices": {
+        "level_plane": {"axis": 1, "t": (1, 2)}, "slices": {"tree": RING_TREE, "axis": 0},
+        "slice_volume": {"listed": slices(RING_TREE, axis=0)}, "area_at": {"listed": slices(RING_TREE, axis=0), "t": (1, 3)}},
+    "rays": {
+        "is_ray": {"value": (P, Q)}, "ray_point": {"ray": (P, Q), "t": (1, 2)}, "spans": {"tree": RING_TREE, "ray": THROUGH},
+        "read_spans": {"listed": spans(RING_TREE, THROUGH), "t": (5, 2)}, "in_length": {"listed": spans(RING_TREE, THROUGH)},
+        "first_hit": {"tree": RING_TREE, "ray": THROUGH}},
+    "pictures": {
+        "is_camera": {"value": CAMERA}, "camera_ray": {"camera": CAMERA, "column": 2, "row": 1},
+        "level": {"normal": P, "light": Q, "steps": 5},
+        "pixel": {"tree": RING_TREE, "camera": CAMERA, "column": 1, "row": 2, "light": Q, "steps": 5},
+        "picture": {"tree": RING_TREE, "camera": CAMERA, "width": 4, "height": 3, "light": Q, "steps": 5},
+        "is_picture": {"value": [[0, 1], [2, 9]]}, "picture_text": {"listed": [[0, 1], [2, 9]]},
+        "parse_picture": {"text": "01\n29"}, "compare_pictures": {"first": [[0, 1], [2, 9]], "second": [[0, 3], [2, 8]]}},
+    "pieces": {
+        "pieces": {"tree": TWO_TREE}, "hollows": {"tree": outside_tree(TWO_TREE)},
+        "piece_at": {"tree": TWO_TREE, "point": point((3, 2), (3, 2), (3, 2))}, "piece_tree": {"tree": TWO_TREE, "number": 1},
+        "fill_hollows": {"tree": outside_tree(TWO_TREE)}, "convex_witness": {"tree": RING_TREE},
+        "is_bend": {"tree": RING_TREE, "value": convex_witness(RING_TREE)}},
 }
 
 TABLE_OF_ANSWERS = '''
@@ -248,6 +286,13 @@ print(far_direction([(planes[0], 1), (planes[1], -1)]), far_ray(half), far_direc
 print(faces(other), open_edges(faces(other)[::2]), tree_of_faces(faces(tree)), volume_by_faces(tree))
 print(section(other, (1, 1, 0, -2)), cell_facets([
     ((1, 0, 0, 0), 1), ((0, 1, 0, 0), 1), ((0, 0, 1, 0), 1), ((1, 2, 3, -4), -1)]))
+from everypoint.pictures import picture
+from everypoint.pieces import convex_witness, hollows, pieces
+from everypoint.rays import first_hit, spans
+from everypoint.slices import slices
+ray = (points[0], ((1, 1), (-1, 1), (2, 1)))
+print(slices(tree, axis=1), spans(other, ray), first_hit(tree, ray), pieces(other), hollows(other), convex_witness(other))
+print(picture(tree, ("pinhole", points[0], points[7], ray[1], points[3]), 5, 4, light=points[2], steps=6))
 '''
 
 
@@ -318,7 +363,8 @@ class TestCalls(SpaceTest):
             if name in ("sort_ratios", "sort_points", "closed", "sign_rows", "halves_of", "planes_of", "tree_planes",
                         "cells", "in_cells", "out_cells", "cell_points", "walls", "walls_unlike", "truth_rows",
                         "cell_corners", "patch_corners", "cell_facets", "faces", "faces_at", "face_corners",
-                        "open_edges", "section"):
+                        "open_edges", "section", "slices", "spans", "picture", "parse_picture", "compare_pictures", "pieces",
+                        "hollows"):
                 self.assertIs(type(answer), list, name)
 
     def test_no_list_is_shared(self):
@@ -349,7 +395,7 @@ class TestCalls(SpaceTest):
             done = subprocess.run(
                 [sys.executable, "-c", TABLE_OF_ANSWERS], env=environment, capture_output=True, text=True, check=True)
             answers.append(done.stdout)
-        self.assertEqual(len(answers[0].split("\n")), 10)
+        self.assertEqual(len(answers[0].split("\n")), 12)
         self.assertEqual(answers, answers[:1] * 3)
 
 

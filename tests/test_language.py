@@ -5,6 +5,8 @@ import builtins
 import os
 import unittest
 
+from support import ERROR_NAMES
+
 ROOT = os.path.dirname(os.path.dirname(os.path.abspath(__file__)))
 PACKAGE = os.path.join(ROOT, "everypoint")
 
@@ -28,8 +30,9 @@ METHOD_FORMS = {
     "__eq__": r"^return isinstance\(other, (\w+)\) and self\.(\w+) == other\.\2$"}
 BARRED_NODES = (
     ast.GeneratorExp, ast.Global, ast.AsyncFunctionDef, ast.Await, ast.Div, ast.MatMult, ast.Pow,
-    ast.AnnAssign, ast.Try, ast.With, ast.NamedExpr, ast.Import, ast.Yield, ast.YieldFrom)
+    ast.AnnAssign, ast.With, ast.NamedExpr, ast.Import, ast.Yield, ast.YieldFrom)
 AT_ONCE = {"zip", "enumerate", "reversed", "range", "map", "filter"}
+SOURCES = []
 TAKERS = {"list", "tuple", "dict", "sorted", "sum", "any", "all", "enumerate", "zip", "min", "max"}
 
 
@@ -41,10 +44,12 @@ def package_files():
 
 
 def sources():
-    for path in sorted(package_files()):
-        with open(path, encoding="ascii", newline="") as source:
-            text = source.read()
-        yield os.path.basename(path), text, ast.parse(text)
+    if not SOURCES:
+        for path in sorted(package_files()):
+            with open(path, encoding="ascii", newline="") as source:
+                text = source.read()
+            SOURCES.append((os.path.basename(path), text, ast.parse(text)))
+    return SOURCES
 
 
 def bound_names(function):
@@ -156,6 +161,8 @@ class TestLanguage(unittest.TestCase):
                     self.check_methods(node, name)
                 if isinstance(node, ast.Compare):
                     self.check_identity(node)
+                if isinstance(node, ast.Try):
+                    self.check_handlers(node, name)
                 if isinstance(node, ast.Call):
                     self.check_call(node, name)
 
@@ -183,6 +190,16 @@ class TestLanguage(unittest.TestCase):
             if form is not None:
                 self.assertEqual(len(statements), 1, place)
                 self.assertRegex(ast.unparse(statements[0]), form, place)
+
+    def check_handlers(self, node, name):
+        """Only own errors are caught, by their names."""
+        self.assertEqual(node.finalbody, [], f"{name}:{node.lineno}")
+        for handler in node.handlers:
+            kinds = handler.type.elts if isinstance(handler.type, ast.Tuple) else [handler.type]
+            self.assertTrue(kinds)
+            for kind in kinds:
+                self.assertIsInstance(kind, ast.Name)
+                self.assertIn(kind.id, ERROR_NAMES, f"{name}:{node.lineno}")
 
     def test_iter_stands_in_its_method_alone(self):
         for name, text, tree in sources():

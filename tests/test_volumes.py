@@ -18,19 +18,13 @@ from everypoint.vectors import triple
 from everypoint.volumes import section, section_area, volume_by_cells, volume_by_faces
 from samples import (
     BOUNDED, CORNERED, CUBE, CUBES_TREE, GEM, HOUSE, NOT_BOUNDED, RING, SHELL, SPIKE, TWO_APART, TWO_IN_A_CORNER,
-    TWO_IN_A_FACE, TWO_IN_AN_EDGE, points_of, some_body, some_kept_trees, some_plane, telling_points)
+    TWO_IN_A_FACE, TWO_IN_AN_EDGE, points_of, some_bodies, some_body, some_kept_trees, some_plane, telling_points)
 from support import X0, Y0, Z0, SpaceTest, lists_in, plane_at, point
 
 X1, Y1, Z1 = plane_at(0, 1), plane_at(1, 1), plane_at(2, 1)
 MOVES = [
     shift_by(point((1, 2), 0, -3)), scale_by(point(2, (-1, 3), 1)), mirror_axis(0), quarter_turn(0), quarter_turn(1, 2),
     make_move([[1, 2, 0], [0, 1, (1, 2)], [1, 0, -2]], [1, -1, 0])]
-
-
-def some_bodies(seed, count):
-    chooser = random.Random(seed)
-    return some_kept_trees(
-        chooser, lambda: (chooser.choice(("join", "meet", "take")), some_body(chooser), some_body(chooser)), count)
 
 
 def section_by_definition(tree, plane):
