@@ -82,10 +82,23 @@ SIGNATURES = {
     "pieces": [
         "pieces(tree)", "hollows(tree)", "piece_at(tree, point)", "piece_tree(tree, number)", "fill_hollows(tree)",
         "convex_witness(tree)", "is_bend(tree, value)"],
+    "contact": [
+        "relation(first, second)", "overlap_cube(first, second)", "is_overlap_cube(first, second, value)",
+        "apart_table(first, second)", "parting_half(first, second)", "is_parting(first, second, half)"],
+    "changes": [
+        "is_order(expression, value)", "tree_by_order(expression, order)", "fewest_planes(expression)",
+        "fewest_nodes(expression)"],
+    "scripts": ["parse_script(text)", "script_text(statements)"],
+    "running": ["run_script(text)"],
+    "books": ["replay(rows)", "audit(rows)", "compare_books(first, second)", "shared_names(first, second)"],
 }
+CLASSES = {"solids": ["Solid"], "changes": ["Model"], "running": ["Run"], "books": ["Book"]}
 # What can be passed by its name only.
 NAMED_ONLY = {
     "copies": ["step"], "section_area": ["axis"], "slices": ["axis"], "pixel": ["light", "steps"], "picture": ["light", "steps"]}
+
+# Books are no plain values: test_books.py calls these.
+WITH_BOOKS = ("replay", "compare_books", "shared_names")
 
 EXAMPLES = '''
 >>> from everypoint.ratios import ratio
@@ -143,6 +156,18 @@ raises TextFault
 >>> from everypoint.keeping import kept_tree
 >>> kept_tree(("meet", ("half", (0, 0, 1, 0), 1), ("half", (0, 0, 1, -2), -1)))
 ((0, 0, 1, -2), 'out', ((0, 0, 1, 0), 'in', 'out'))
+
+>>> from everypoint.running import run_script
+>>> run_script("make a half 0 0 1 0 +\\nmake b half 0 0 1 -2 -\\ncut c a b\\nask at c 0 5 1\\nask at c 0 5 2\\nask volume c\\nask relation a b")
+['in', 'on', 'unbounded', 'overlap']
+
+>>> from everypoint.running import run_script
+>>> run_script("make a box 0 0 0 1 2 3\\nask volume a\\nask convex a\\nask hit a 1/2 1 5 0 0 -1")
+['6', 'yes', '2']
+
+>>> from everypoint.running import run_script
+>>> run_script("make a empty\\nmake a full")
+raises RunFault
 '''
 
 LAYER = ((0, 0, 1, -2), "out", ((0, 0, 1, 0), "in", "out"))
@@ -259,6 +284,20 @@ CALLS = {
         "piece_at": {"tree": TWO_TREE, "point": point((3, 2), (3, 2), (3, 2))}, "piece_tree": {"tree": TWO_TREE, "number": 1},
         "fill_hollows": {"tree": outside_tree(TWO_TREE)}, "convex_witness": {"tree": RING_TREE},
         "is_bend": {"tree": RING_TREE, "value": convex_witness(RING_TREE)}},
+    "contact": {
+        "relation": {"first": RING_TREE, "second": TWO_TREE}, "overlap_cube": {"first": RING_TREE, "second": TWO_TREE},
+        "is_overlap_cube": {"first": RING_TREE, "second": TWO_TREE, "value": (point((1, 2), (1, 2), (1, 2)), (1, 2))},
+        "apart_table": {"first": TWO_TREE, "second": kept_tree(("half", plane_at(0, 3), 1))},
+        "parting_half": {"first": (X0, "in", "out"), "second": (X0, "out", (plane_at(1, 3), "in", "out"))},
+        "is_parting": {"first": RING_TREE, "second": TWO_TREE, "half": (X0, 1)}},
+    "changes": {
+        "is_order": {"expression": SOLID, "value": [Y0, Z0]}, "tree_by_order": {"expression": SOLID, "order": [Y0, Z0]},
+        "fewest_planes": {"expression": SOLID}, "fewest_nodes": {"expression": SOLID}},
+    "scripts": {
+        "parse_script": {"text": "make a empty\nask empty a"},
+        "script_text": {"statements": [("make", "a", "empty"), ("ask", "empty", "a")]}},
+    "running": {"run_script": {"text": "make a empty\nask empty a\nask volume a"}},
+    "books": {"audit": {"rows": ["make a empty", "ask empty a = yes", "ask empty a = no"]}},
 }
 
 TABLE_OF_ANSWERS = '''
@@ -293,6 +332,17 @@ from everypoint.slices import slices
 ray = (points[0], ((1, 1), (-1, 1), (2, 1)))
 print(slices(tree, axis=1), spans(other, ray), first_hit(tree, ray), pieces(other), hollows(other), convex_witness(other))
 print(picture(tree, ("pinhole", points[0], points[7], ray[1], points[3]), 5, 4, light=points[2], steps=6))
+from everypoint.books import Book
+from everypoint.changes import Model, fewest_nodes, tree_by_order
+from everypoint.contact import apart_table, overlap_cube, parting_half, relation
+from everypoint.moves import shift_by
+moved = kept_tree(("move", shift_by(points[7]), hull(points)))
+print(relation(tree, moved), relation(tree, other), overlap_cube(tree, other), apart_table(other, moved), parting_half(tree, moved))
+print(tree_by_order(hull(points[:4]), planes_of(hull(points[:4]))[::-1]), fewest_nodes(hull(points[:4])))
+book, model = Book(), Model(hull(points))
+for line in ("make a hull 0 0 0 1 1 1 2 4 8 3 9 27", "move b a turn y 1", "take c a b", "ask pieces c", "ask hit c 0 0 9 1 2 0"):
+    print(book.enter(line))
+print(model.change([0, 0], hull(points[:5])), model.back(), book.names, list(book.twin()))
 '''
 
 
@@ -330,7 +380,15 @@ class TestNames(SpaceTest):
 
     def test_every_listed_function_is_called_here(self):
         for module, listed in SIGNATURES.items():
-            self.assertEqual(list(CALLS[module]), [entry[:entry.index("(")] for entry in listed])
+            names = [entry[:entry.index("(")] for entry in listed]
+            self.assertEqual(list(CALLS[module]), [name for name in names if name not in WITH_BOOKS])
+
+    def test_each_class_is_defined_where_it_is_listed(self):
+        for module, listed in CLASSES.items():
+            for name in listed:
+                found = function_named(module, name)
+                self.assertTrue(inspect.isclass(found))
+                self.assertEqual((found.__module__, found.__name__), ("everypoint." + module, name))
 
 
 class TestCalls(SpaceTest):
@@ -364,7 +422,7 @@ class TestCalls(SpaceTest):
                         "cells", "in_cells", "out_cells", "cell_points", "walls", "walls_unlike", "truth_rows",
                         "cell_corners", "patch_corners", "cell_facets", "faces", "faces_at", "face_corners",
                         "open_edges", "section", "slices", "spans", "picture", "parse_picture", "compare_pictures", "pieces",
-                        "hollows"):
+                        "hollows", "apart_table", "parse_script", "run_script"):
                 self.assertIs(type(answer), list, name)
 
     def test_no_list_is_shared(self):
@@ -395,7 +453,7 @@ class TestCalls(SpaceTest):
             done = subprocess.run(
                 [sys.executable, "-c", TABLE_OF_ANSWERS], env=environment, capture_output=True, text=True, check=True)
             answers.append(done.stdout)
-        self.assertEqual(len(answers[0].split("\n")), 12)
+        self.assertEqual(len(answers[0].split("\n")), 20)
         self.assertEqual(answers, answers[:1] * 3)
 
 
@@ -403,7 +461,7 @@ class TestExamples(SpaceTest):
 
     def test_word_for_word(self):
         examples = [block.split("\n") for block in EXAMPLES.strip().split("\n\n")]
-        self.assertEqual(len(examples), 14)
+        self.assertEqual(len(examples), 17)
         for lines in examples:
             names = {}
             exec(lines[0].removeprefix(">>> "), names)

@@ -133,6 +133,11 @@ class TestLanguage(unittest.TestCase):
         self.assertEqual(imported["__init__.py"], [])
         self.assert_no_circle(imported)
 
+    def test_what_is_imported_is_used(self):
+        for name, text, tree in sources():
+            used = {node.id for node in ast.walk(tree) if isinstance(node, ast.Name)}
+            self.assertLessEqual(set(module_names(tree)[0]), used, name)
+
     def defined_in(self, module, names):
         for name, text, tree in sources():
             if name == module:

@@ -11,7 +11,7 @@ from everypoint.moves import make_move, mirror_axis
 from everypoint.pieces import convex_witness, fill_hollows, hollows, is_bend, piece_at, piece_tree, pieces
 from everypoint.polygons import is_bounded_cell
 from everypoint.ratios import add
-from everypoint.shapes import box, hull, octahedron, tetrahedron, wedge
+from everypoint.shapes import box, hull, tetrahedron, wedge
 from everypoint.systems import closed, has_point, holds
 from everypoint.trees import MOST_NODES, cell_points, cells, in_cells, node_count, read_tree, tree_planes
 from everypoint.vectors import blend, is_vector, strictly_between

@@ -5,7 +5,7 @@ import unittest
 
 from everypoint.keeping import keep, kept_tree, move_tree, outside_tree
 from everypoint.moves import make_move, mirror_axis, shift_by
-from everypoint.planes import is_plane, make_plane, side_of
+from everypoint.planes import is_plane, side_of
 from everypoint.polygons import cell_corners
 from everypoint.ratios import add, compare, divide, middle, multiply, negate, ratio, sort_ratios, subtract
 from everypoint.shapes import box, octahedron, tetrahedron, wedge
